@@ -1,0 +1,1 @@
+"""Dueturns: turns dealt by shares, kept fair through time."""

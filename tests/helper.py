@@ -1,0 +1,112 @@
+"""What the tests share: odd things of all kinds, and a second reckoning by Python's own fractions."""
+
+from decimal import Decimal
+from fractions import Fraction
+from itertools import product
+
+
+class Sulky:
+    """A thing that can be asked nothing."""
+
+    def sulk(self, *told):
+        raise RuntimeError("asked")
+
+    __eq__ = __ne__ = __lt__ = __le__ = __gt__ = __ge__ = sulk
+    __len__ = __iter__ = __bool__ = __hash__ = __getitem__ = __contains__ = sulk
+    __int__ = __index__ = __add__ = __radd__ = __sub__ = __rsub__ = sulk
+
+
+def anything():
+    """Things of many kinds, made anew; none of them is a whole number."""
+    ring = []
+    ring.append(ring)
+    deep = []
+    for level in range(2000):
+        deep = [deep]
+    return [
+        None, True, False, 0.0, 1.0, 0.5, float("nan"), float("inf"), 1j, Decimal(1), Fraction(1),
+        "", "0", "1", "over", b"", b"0", bytearray(b"1"), [], [1], [[]], (), (1,), ((),), {}, {0: 1}, {1: [1]},
+        set(), {1}, frozenset([1]), range(3), iter([1]), (one for one in [1]), object(), int, list, len,
+        Ellipsis, NotImplemented, ValueError("1"), Sulky(), [Sulky()], (Sulky(), Sulky()), ring, deep,
+    ]
+
+
+def no_whole_between(low, high):
+    """Things of which none is a whole number from low to high."""
+    return anything() + [low - 1, high + 1, low - 10 ** 70, high + 10 ** 70]
+
+
+def pair(one):
+    """A fraction of Python's own as the program has it."""
+    return (one.numerator, one.denominator)
+
+
+def dues(spells):
+    """The dues of all claimants behind 0 turns and behind each further one."""
+    told = [[Fraction(0) for weight in spells[0][1]]]
+    for turns, weights in spells:
+        for turn in range(turns):
+            told.append([due + Fraction(weight, sum(weights)) for due, weight in zip(told[-1], weights)])
+    return told
+
+
+def lags(spells, row):
+    """The lags of all claimants behind 0 turns of a row and behind each further one."""
+    told = dues(spells)[:len(row) + 1]
+    return [[due - row[:turns].count(who) for who, due in enumerate(line)] for turns, line in enumerate(told)]
+
+
+def lag_fits(bound, lag):
+    """Whether a lag keeps a bound."""
+    most = Fraction(*bound[0])
+    return abs(lag) < most if bound[1] else abs(lag) <= most
+
+
+def row_fits(spells, bound, row):
+    """Whether a row keeps a bound."""
+    return all(lag_fits(bound, lag) for line in lags(spells, row) for lag in line)
+
+
+def all_rows(spells):
+    """All rows of all turns."""
+    return [list(row) for row in product(range(len(spells[0][1])), repeat=sum(turns for turns, weights in spells))]
+
+
+def slow_range(bound, due):
+    """A range by its words: numbers are gone through one by one."""
+    low = 0
+    while not (lag_fits(bound, due - low) or due - low < 0):
+        low += 1
+    high = int(due + Fraction(*bound[0])) + 2
+    while high > 0 and not (lag_fits(bound, high - due) or high - due < 0):
+        high -= 1
+    return (low, high)
+
+
+def random_spells(chance, many, turns):
+    """A list of spells with so many claimants and turns together."""
+    spells = []
+    while turns > 0:
+        weights = [chance.choice([0, 1, 1, 2, 3, 5, chance.randint(0, 1000)]) for who in range(many)]
+        length = chance.randint(1, min(turns, 60))
+        if len(spells) == 7:
+            length = turns
+        if sum(weights) > 0:
+            spells.append((length, weights))
+            turns -= length
+    return spells
+
+
+class Refusals:
+    """Mixed into test cases: asks that a call is refused."""
+
+    def refused(self, error, call, *told):
+        """The error with which a call is refused, of just that class."""
+        with self.assertRaises(error) as caught:
+            call(*told)
+        self.assertIs(type(caught.exception), error)
+        return caught.exception
+
+    def refused_at(self, error, at, call, *told):
+        """A call is refused with a field at."""
+        self.assertEqual(self.refused(error, call, *told).at, at, told)
