@@ -18,6 +18,12 @@ def are_weights(thing):
     return all([is_whole_within(weight, 0, MOST_WEIGHT) for weight in thing]) and sum(thing) > 0
 
 
+def check_weights(weights):
+    """NoPlan, its at 0, for what is no list of weights as a spell has them."""
+    if not are_weights(weights):
+        raise NoPlan(0)
+
+
 def is_spell(thing):
     """Whether a thing, of any kind, is a spell."""
     if not is_tuple_of(thing, 2):
@@ -51,6 +57,16 @@ def dues_ahead(parts):
         ahead.append(dues)
         dues = [plus(due, made(turns * weight, sum(weights))) for due, weight in zip(dues, weights)]
     return ahead
+
+
+def dues_behind(plan, turns):
+    """The dues of all claimants behind so many turns."""
+    return [plan.due(turns, who) for who in range(plan.many())]
+
+
+def due_lines(plan):
+    """The dues of all claimants behind 0 turns of a plan and behind each further one."""
+    return [dues_behind(plan, turns) for turns in range(plan.turns() + 1)]
 
 
 class Plan:

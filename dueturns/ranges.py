@@ -3,6 +3,7 @@
 from dueturns.checks import is_tuple_of, is_whole
 from dueturns.errors import NoBound, NoNumber
 from dueturns.fractions import ceiling_of, floor_of, is_fraction, less, minus, plus, size_of
+from dueturns.plans import dues_behind
 
 MOST_OF_BOUND = 300
 
@@ -49,17 +50,25 @@ def high_at(bound, due):
     return floor_of(edge)
 
 
+def range_at(bound, due):
+    """The range of a claimant with a due; the bound is not checked."""
+    return (low_at(bound, due), high_at(bound, due))
+
+
 def range_of(plan, bound, turns, who):
     """The range of a claimant behind so many turns; NoBound, then NoTurns, then NoClaimant."""
     check_bound(bound)
-    due = plan.due(turns, who)
-    return (low_at(bound, due), high_at(bound, due))
+    return range_at(bound, plan.due(turns, who))
 
 
 def ranges_behind(plan, bound, turns):
     """The ranges of all claimants behind so many turns; the bound is not checked."""
-    dues = [plan.due(turns, who) for who in range(plan.many())]
-    return [(low_at(bound, due), high_at(bound, due)) for due in dues]
+    return [range_at(bound, due) for due in dues_behind(plan, turns)]
+
+
+def range_table(bound, lines):
+    """The ranges of all claimants for each line of dues; the bound is not checked."""
+    return [[range_at(bound, due) for due in line] for line in lines]
 
 
 def window(plan, bound, who, k):

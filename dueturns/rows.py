@@ -3,6 +3,7 @@
 from dueturns.checks import is_whole_within
 from dueturns.errors import NoRow, NoTurns
 from dueturns.fractions import less, minus, size_of
+from dueturns.plans import dues_behind
 
 
 def check_row(plan, row):
@@ -37,7 +38,7 @@ def lag(plan, row, turns, who):
 
 def lags_behind(plan, chosen, turns):
     """The lags of all claimants behind so many turns in which each was chosen so often."""
-    return [minus(plan.due(turns, who), (often, 1)) for who, often in enumerate(chosen)]
+    return [minus(due, (often, 1)) for due, often in zip(dues_behind(plan, turns), chosen)]
 
 
 def all_lags(plan, row):

@@ -83,6 +83,56 @@ def slow_range(bound, due):
     return (low, high)
 
 
+def least_worst(spells):
+    """The least worst over all rows of all turns, gone through one by one."""
+    return min(max(abs(lag) for line in lags(spells, row) for lag in line) for row in all_rows(spells))
+
+
+def small_spells(chance, number):
+    """Lists of spells, so many, each with few enough rows of all turns to be gone through."""
+    told = []
+    for one in range(number):
+        many = chance.randint(1, 4)
+        told.append(random_spells(chance, many, chance.randint(1, (8, 7, 5, 4)[many - 1])))
+    return told
+
+
+def long_plans(chance, number):
+    """Lists of eight spells of six claimants and 240 turns together: so many by chance, and some that are even."""
+    told = [[(30, [chance.randint(0, 1000) for who in range(6)]) for spell in range(8)] for one in range(number)]
+    told.append([(30, [1000, 999, 997, 991, 983, 977 - spell]) for spell in range(8)])
+    told.append([(30, [1, 1, 1, 1, 1, 1])] * 8)
+    told.append([(30, [990 * (who == spell % 6) + who for who in range(6)]) for spell in range(8)])
+    return told
+
+
+def lag_sizes(spells):
+    """The sizes, rising, that lags of a plan have below or at 1."""
+    parts = {due % 1 for line in dues(spells) for due in line}
+    return [pair(one) for one in sorted(parts | {1 - part for part in parts})]
+
+
+def wrong_bounds():
+    """Things that are no bound, of any kind."""
+    told = anything() + [0, 1, 300, ((1, 2),), ((1, 2), True, True), [(1, 2), True], (True, (1, 2)), (1, 2), "1/2", "<1"]
+    told += [((1, 2), strict) for strict in anything() + [0, 1] if strict is not True and strict is not False]
+    mosts = anything() + [0, 1, -1, 300, Fraction(1, 2), [1, 2], (1,), (1, 2, 3), (1, 0), (0, 0), (1, -2), (-1, -2)]
+    mosts += [(-1, 1), (-1, 300), (301, 1), (601, 2), (300 * 10 ** 50 + 1, 10 ** 50), (10 ** 60, 7)]
+    mosts += [(2, 4), (0, 2), (0, 300), (300, 300), (600, 2), (True, 1), (1, True), (False, 1), (1.0, 2), (1, 2.0)]
+    mosts += [(thing, 1) for thing in anything()] + [(1, thing) for thing in anything()]
+    told += [(most, strict) for most in mosts for strict in (True, False)]
+    return told
+
+
+def wrong_weights():
+    """Things that are no weights of a spell, of any kind."""
+    told = [thing for thing in anything() if type(thing) is not list]
+    told += [[], [0], [0, 0], [1] * 7, [0] * 5 + [1] * 2, (1, 2), {0: 1}, "12", 3, None, range(1, 3), [[1, 2]], [(1, 2)]]
+    for weight in no_whole_between(0, 1000):
+        told += [[weight], [weight, 1], [1, weight], [1, weight, 1]]
+    return told
+
+
 def random_spells(chance, many, turns):
     """A list of spells with so many claimants and turns together."""
     spells = []

@@ -8,17 +8,11 @@ from fractions import Fraction
 from dueturns.earliest import kept_by
 from dueturns.papers import keeps, shows_none
 from dueturns.plans import Plan
-from tests.helper import all_rows, dues, pair, random_spells, row_fits
+from tests.helper import all_rows, lag_sizes, long_plans, pair, random_spells, row_fits, small_spells
 
 MOSTS = ((0, 1), (1, 4), (1, 3), (1, 2), (3, 5), (2, 3), (3, 4), (5, 6), (9, 10), (1, 1), (3, 2), (7, 1), (300, 1))
 BOUNDS = [(most, strict) for most in MOSTS for strict in (False, True)]
 SECONDS = 5
-
-
-def sizes(spells):
-    """The sizes, rising, that lags of a plan have below or at 1."""
-    parts = {due % 1 for line in dues(spells) for due in line}
-    return [pair(one) for one in sorted(parts | {1 - part for part in parts})]
 
 
 class KeptBy(unittest.TestCase):
@@ -47,12 +41,10 @@ class KeptBy(unittest.TestCase):
     def test_against_all_rows_of_small_plans(self):
         chance = random.Random(230)
         words = {"row": 0, "paper": 0}
-        for number in range(60):
-            many = chance.randint(1, 4)
-            spells = random_spells(chance, many, chance.randint(1, (8, 7, 5, 4)[many - 1]))
+        for spells in small_spells(chance, 60):
             plan, rows = Plan(spells), all_rows(spells)
             chosen = chance.sample(BOUNDS, 6)
-            for most in chance.sample(sizes(spells), min(3, len(sizes(spells)))):
+            for most in chance.sample(lag_sizes(spells), min(3, len(lag_sizes(spells)))):
                 chosen += [(most, False), (most, True)]
             for bound in chosen:
                 some = any(row_fits(spells, bound, row) for row in rows)
@@ -66,7 +58,7 @@ class KeptBy(unittest.TestCase):
         chance = random.Random(231)
         for number in range(150):
             plan = Plan(random_spells(chance, chance.randint(2, 6), chance.randint(2, 30)))
-            mosts = sizes(plan.spells())
+            mosts = lag_sizes(plan.spells())
             words = [self.assert_told(plan, (most, False)) for most in mosts[::5]]
             self.assertEqual(words, sorted(words))
             low, high = 0, len(mosts) - 1
@@ -86,10 +78,8 @@ class KeptBy(unittest.TestCase):
 
     def test_the_greatest_plans_in_a_short_time(self):
         chance = random.Random(232)
-        plans = [Plan([(30, [chance.randint(0, 1000) for who in range(6)]) for spell in range(8)]) for number in range(4)]
-        plans.append(Plan([(30, [1000, 999, 997, 991, 983, 977 - spell]) for spell in range(8)]))
-        plans.append(Plan([(30, [1, 1, 1, 1, 1, 1])] * 8))
-        for plan in plans:
+        for spells in long_plans(chance, 4):
+            plan = Plan(spells)
             for bound in (((1, 1), True), ((9, 10), False), ((3, 4), False), ((1, 2), True), ((300, 1), False)):
                 start = time.monotonic()
                 self.assert_told(plan, bound)

@@ -7,26 +7,17 @@ from fractions import Fraction
 
 from dueturns.errors import NoClaimant, NoPlan, NoTurns
 from dueturns.plans import Plan
-from tests.helper import Refusals, anything, dues, no_whole_between, pair, random_spells
+from tests.helper import Refusals, anything, dues, no_whole_between, pair, random_spells, wrong_weights
 
 GOOD = (3, [1, 2])
 LONGEST = [(60, [1, 2]), (60, [0, 5]), (60, [3, 3]), (60, [1000, 0])]
 EIGHT = [(turns, [turns, 1, 0]) for turns in range(1, 9)]
 
 
-def wrong_weights():
-    """Things that are no weights of a spell."""
-    told = [[], [0], [0, 0], [1] * 7, [0] * 5 + [1] * 2, (1, 2), {0: 1}, "12", 3, None, range(1, 3), [[1, 2]], [(1, 2)]]
-    for weight in no_whole_between(0, 1000):
-        told += [[weight], [weight, 1], [1, weight], [1, weight, 1]]
-    return told
-
-
 def wrong_spells():
     """Things that are no spell, of any kind."""
     told = anything() + [0, 1, 3, (), (3,), (3, [1, 2], 1), ([1, 2], 3), [3, [1, 2]], (3, (1, 2)), (3, 1, 2), "3x1,2"]
     told += [(turns, [1, 2]) for turns in no_whole_between(1, 60)]
-    told += [(3, weights) for weights in anything() if type(weights) is not list]
     told += [(3, weights) for weights in wrong_weights()]
     return told
 

@@ -10,23 +10,11 @@ from dueturns.papers import keeps, shows_none
 from dueturns.plans import Plan
 from dueturns.ranges import lag_keeps, range_of, window
 from tests.helper import Refusals, all_rows, anything, dues, lag_fits, no_whole_between, pair, random_spells
-from tests.helper import row_fits, slow_range
+from tests.helper import row_fits, slow_range, wrong_bounds
 
 SPELLS = [(3, [1, 2, 0]), (4, [5, 6, 1])]
 MOSTS = [(0, 1), (1, 7), (1, 3), (1, 2), (2, 3), (5, 6), (1, 1), (7, 5), (2, 1), (9, 2), (299, 1), (300, 1)]
 BOUNDS = [(most, strict) for most in MOSTS for strict in (False, True)]
-
-
-def wrong_bounds():
-    """Things that are no bound, of any kind."""
-    told = anything() + [0, 1, 300, ((1, 2),), ((1, 2), True, True), [(1, 2), True], (True, (1, 2)), (1, 2), "1/2", "<1"]
-    told += [((1, 2), strict) for strict in anything() + [0, 1] if strict is not True and strict is not False]
-    mosts = anything() + [0, 1, -1, 300, Fraction(1, 2), [1, 2], (1,), (1, 2, 3), (1, 0), (0, 0), (1, -2), (-1, -2)]
-    mosts += [(-1, 1), (-1, 300), (301, 1), (601, 2), (300 * 10 ** 50 + 1, 10 ** 50), (10 ** 60, 7)]
-    mosts += [(2, 4), (0, 2), (0, 300), (300, 300), (600, 2), (True, 1), (1, True), (False, 1), (1.0, 2), (1, 2.0)]
-    mosts += [(thing, 1) for thing in anything()] + [(1, thing) for thing in anything()]
-    told += [(most, strict) for most in mosts for strict in (True, False)]
-    return told
 
 
 class Bounds(unittest.TestCase, Refusals):
