@@ -3,6 +3,9 @@
 from dueturns.plans import due_lines
 from dueturns.ranges import check_bound, range_table
 
+# Every plan has a row of all turns that keeps this bound.
+BELOW_ONE = ((1, 1), True)
+
 
 def kept_by(plan, bound):
     """("row", row), a row of all turns that keeps the bound, or ("paper", paper); NoBound."""

@@ -1,11 +1,8 @@
 """A keeper that knows the plan, so that nobody ever lags or leads by a whole turn."""
 
-from dueturns.earliest import kept_by
+from dueturns.earliest import BELOW_ONE, kept_by
 from dueturns.errors import NoStep, NoTurns
 from dueturns.rows import lags_behind
-
-# Every plan has a row that keeps this bound.
-BELOW_ONE = ((1, 1), True)
 
 
 class Foresight:

@@ -32,14 +32,18 @@ def most_between(early, late):
     return sum([max(0, after[1] - ahead[0]) for ahead, after in zip(early, late)])
 
 
+def is_right(paper, early, late):
+    """Whether a paper is right where these are the ranges behind its first and its second number of turns."""
+    word, a, b = paper
+    if word == "over":
+        return least_between(early, late) > b - a
+    return most_between(early, late) < b - a
+
+
 def shows_none(plan, bound, thing):
     """Whether a thing, of any kind, is a right paper; NoBound."""
     check_bound(bound)
     if not is_paper(plan, thing):
         return False
     word, a, b = thing
-    early = ranges_behind(plan, bound, a)
-    late = ranges_behind(plan, bound, b)
-    if word == "over":
-        return least_between(early, late) > b - a
-    return most_between(early, late) < b - a
+    return is_right(thing, ranges_behind(plan, bound, a), ranges_behind(plan, bound, b))

@@ -124,6 +124,32 @@ def wrong_bounds():
     return told
 
 
+def wrong_runnings():
+    """Things that are no running, of any kind."""
+    told = anything() + [0, ([0],), ([0], [1], [2]), [[0], [1]], ([], []), ([0, 1], []), ((0,), [1]), ([0], (1,)), "ab"]
+    told += [(head, [0]) for head in anything() if type(head) is not list]
+    told += [([0], lap) for lap in anything() if type(lap) is not list]
+    for thing in no_whole_between(0, 5):
+        told += [([thing], [0]), ([0, thing, 1], [0]), ([], [thing]), ([1], [0, 1, thing])]
+    return told
+
+
+def long_row(running, turns):
+    """The first so many turns of a running, one by one."""
+    head, lap = running
+    row = list(head)
+    while len(row) < turns:
+        row += lap
+    return row[:turns]
+
+
+def random_running(chance, many):
+    """A running of so many claimants; some laps are a shorter one taken so many times, some heads end as the lap does."""
+    lap = [chance.randrange(many) for turn in range(chance.randint(1, 6))] * chance.choice([1, 1, 2, 3])
+    head = [chance.randrange(many) for turn in range(chance.randint(0, 6))]
+    return (head + chance.choice([[], [], lap[-1:], lap[-2:], lap, lap + lap]), lap)
+
+
 def wrong_weights():
     """Things that are no weights of a spell, of any kind."""
     told = [thing for thing in anything() if type(thing) is not list]
@@ -131,6 +157,11 @@ def wrong_weights():
     for weight in no_whole_between(0, 1000):
         told += [[weight], [weight, 1], [1, weight], [1, weight, 1]]
     return told
+
+
+def all_papers(turns):
+    """All papers for a plan of so many turns."""
+    return [(word, a, b) for word in ("over", "under") for b in range(turns + 1) for a in range(b + 1)]
 
 
 def random_spells(chance, many, turns):

@@ -6,16 +6,11 @@ import unittest
 from dueturns.errors import NoRow
 from dueturns.papers import keeps, shows_none
 from dueturns.plans import Plan
-from tests.helper import Refusals, all_rows, anything, dues, no_whole_between, pair, random_spells
+from tests.helper import Refusals, all_papers, all_rows, anything, dues, no_whole_between, pair, random_spells
 from tests.helper import row_fits, slow_range
 
 SPELLS = [(3, [1, 2, 0]), (4, [5, 6, 1])]
 BOUNDS = [(most, strict) for most in ((0, 1), (1, 3), (1, 2), (2, 3), (3, 4), (1, 1), (5, 2)) for strict in (False, True)]
-
-
-def all_papers(turns):
-    """All papers for a plan of so many turns."""
-    return [(word, a, b) for word in ("over", "under") for b in range(turns + 1) for a in range(b + 1)]
 
 
 def slow_paper(spells, bound, paper):
