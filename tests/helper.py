@@ -1,5 +1,6 @@
 """What the tests share: odd things of all kinds, and a second reckoning by Python's own fractions."""
 
+import random
 from decimal import Decimal
 from fractions import Fraction
 from itertools import product
@@ -157,6 +158,141 @@ def wrong_weights():
     for weight in no_whole_between(0, 1000):
         told += [[weight], [weight, 1], [1, weight], [1, weight, 1]]
     return told
+
+
+def nested(word, sentence, times):
+    """A sentence so many times within "not", or within "and" or "or" of it alone."""
+    for time in range(times):
+        sentence = (word, sentence if word == "not" else (sentence,))
+    return sentence
+
+
+def wrong_sentences():
+    """Things that are no sentence, of any kind."""
+    went, ring = ("went", 0, 1), []
+    ring.append(("not", ring))
+    told = anything() + [0, "went", list(went), ["not", went], ["and", ()], ("not",), ("and",), ("or",), ("went",)]
+    told += [("Went", 0, 1), ("go", 0, 1), (b"went", 0, 1), (0, "went", 1), ("", 0, 1), (None, 0, 1), ("xor", (went,))]
+    told += [("went", 0), ("went", 0, 1, 1), ("often", 0, 1), ("often", 0, 1, 1, 1), ("more", 0, 1), ("more", 0, 1, 1, 1)]
+    told += [("not", went, went), ("and", (), ()), ("or", (went,), 1), ("and", went, went), ("not", (went,)), went + went]
+    told += [("and", [went]), ("or", [went]), ("and", []), ("or", {}), ("and", went), ("or", 0), ("not", list(went))]
+    told += [("and", (went,) * 5), ("or", (went,) * 5), ("and", (went, list(went))), ("or", (went, went, "went"))]
+    told += [("more", who, who, 1) for who in range(6)] + [("more", 0, 0, 0), ring[0], ("and", (went, ring[0]))]
+    told += [("often", 0, back, back + 1) for back in range(1, 6)] + [("often", 0, 1, True), ("often", 0, True, 1)]
+    for thing in no_whole_between(0, 5):
+        told += [("went", thing, 1), ("often", thing, 1, 1), ("more", thing, 0, 1), ("more", 0, thing, 1)]
+    for thing in no_whole_between(1, 5):
+        told += [("went", 0, thing), ("often", 0, thing, 1), ("more", 0, 1, thing), ("often", 0, 5, thing)]
+    for thing in anything() + [0, ("went", 0, 6), nested("not", went, 40), nested("and", went, 5000)]:
+        told += [("not", thing), ("and", (thing,)), ("or", (went, thing)), ("not", ("or", (("and", (went, thing)),)))]
+    return told + [nested(word, went, times) for word in ("not", "and", "or") for times in (40, 41, 3000)]
+
+
+def wrong_pasts(many):
+    """Pairs of a thing that is no past of so many claimants, and the place that is told of it."""
+    told = [(thing, -1) for thing in anything() + [0, (0,), "0", [0] * 121, [many] * 121] if type(thing) is not list]
+    told += [(thing, -1) for thing in ([0] * 121, [many] * 121, [None] * 500)]
+    for thing in no_whole_between(0, many - 1):
+        told += [([thing], 0), ([0, thing], 1), ([thing, 0], 0), ([0, 0, thing, thing], 2), ([0] * 119 + [thing], 119)]
+    return told
+
+
+def said(sentence, past):
+    """Whether a sentence holds of a past, read turn by turn."""
+    word = sentence[0]
+    if word == "not":
+        return not said(sentence[1], past)
+    if word in ("and", "or"):
+        return (all if word == "and" else any)([said(one, past) for one in sentence[1]])
+    back = sentence[3 if word == "more" else 2]
+    ago = {turns: past[len(past) - turns] for turns in range(1, back + 1) if turns <= len(past)}
+    if word == "went":
+        return ago.get(back) == sentence[1]
+    often = [sum(who == one for who in ago.values()) for one in range(6)]
+    return often[sentence[1]] >= sentence[3] if word == "often" else often[sentence[1]] > often[sentence[2]]
+
+
+def backs(sentence):
+    """All numbers of turns that a sentence looks back."""
+    if sentence[0] == "not":
+        return backs(sentence[1])
+    if sentence[0] in ("and", "or"):
+        return [back for one in sentence[1] for back in backs(one)]
+    return [sentence[3] if sentence[0] == "more" else sentence[2]]
+
+
+def random_sentence(chance, many, most, depth):
+    """A sentence on so many claimants that looks back at most so many turns."""
+    word = chance.choice(["went", "often", "more", "not", "and", "or"])
+    who, back = chance.randrange(many), chance.randint(1, most)
+    if word == "often":
+        return (word, who, back, chance.randint(1, back))
+    if word == "more" and many > 1:
+        return (word, *chance.sample(range(many), 2), back)
+    if depth == 0 or word in ("went", "more"):
+        return ("went", who, back)
+    if word == "not":
+        return (word, random_sentence(chance, many, most, depth - 1))
+    return (word, tuple(random_sentence(chance, many, most, depth - 1) for one in range(chance.choice([0, 1, 2, 2, 3]))))
+
+
+def random_book(chance, most):
+    """A book that looks back at most so many turns, or as many as its claimants ask for."""
+    many = chance.randint(1, 4)
+    number = chance.choice([0, 1, 2, 3, 5, 8])
+    return (many, [(random_sentence(chance, many, most, 2), chance.randrange(many)) for rule in range(number)])
+
+
+def random_books(seed, number):
+    """Books, so many; few of them look back five turns."""
+    chance = random.Random(seed)
+    return [random_book(chance, chance.choice([1, 2, 2, 3, 3, 4, 5])) for one in range(number)]
+
+
+def reach_by(book):
+    """The reach of a book."""
+    return max([book[0] - 1] + [back for sentence, who in book[1] for back in backs(sentence)])
+
+
+def pasts_to(many, turns):
+    """All pasts of so many claimants with at most so many turns, shorter ones first, else in order."""
+    return [list(past) for length in range(turns + 1) for past in product(range(many), repeat=length)]
+
+
+def choice_by(book, past):
+    """The number of the rule by which a book chooses behind a past, or None, and the claimant, by their words."""
+    many, rules = book
+    for number, (sentence, who) in enumerate(rules):
+        if said(sentence, past):
+            return (number, who)
+    ago = {}
+    for turns in range(1, min(reach_by(book), len(past)) + 1):
+        ago.setdefault(past[len(past) - turns], turns)
+    return (None, max(range(many), key=lambda who: (ago.get(who, 1000), -who)))
+
+
+def row_by(book, past, turns):
+    """The first so many turns of the row that a book deals behind a past, gone through one by one."""
+    row = list(past)
+    for turn in range(turns):
+        row.append(choice_by(book, row)[1])
+    return row[len(past):]
+
+
+def wrong_books():
+    """Pairs of a thing that is no book, and the place that is told of it."""
+    went = ("went", 0, 1)
+    told = [(thing, -1) for thing in anything() + [0, (2,), (2, [], []), [2, []], ([], 2), "2", (2, ()), (2, ((went, 0),))]]
+    told += [((thing, []), -1) for thing in no_whole_between(1, 4)] + [((0, [(went, 0)]), -1), ((5, []), -1)]
+    told += [((2, thing), -1) for thing in anything() + [0, [(went, 0)] * 9, [0] * 9] if type(thing) is not list or len(thing) > 8]
+    rules = anything() + [0, (went,), (went, 0, 0), [went, 0], (0, went), went, (went, went), ("went", 0)]
+    rules += [(thing, 0) for thing in wrong_sentences()] + [(went, thing) for thing in no_whole_between(0, 2)]
+    rules += [(("went", 3, 1), 0), (("often", 3, 1, 1), 0), (("more", 3, 0, 1), 0), (("more", 0, 3, 1), 0), (went, 3)]
+    rules += [(("not", ("went", 3, 1)), 0), (("and", (went, ("or", (went, ("went", 4, 2))))), 0), (("more", 0, 5, 1), 0)]
+    for rule in rules:
+        told += [((3, [rule]), 0), ((3, [(went, 1), rule, rule]), 1)]
+    told += [((3, [(went, 2)] * 7 + [rule]), 7) for rule in rules[-20:]]
+    return told + [((1, [(("went", 1, 1), 0)]), 0), ((1, [(went, 0), (went, 1)]), 1)]
 
 
 def all_papers(turns):
