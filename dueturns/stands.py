@@ -38,6 +38,18 @@ def next_stand(stand, who, reach):
     return last_turns((*stand, who), reach)
 
 
+def choices_of(book):
+    """The choice of a book at each of its stands, in their order; the book is not checked."""
+    reach = book_reach(book)
+    return {stand: choice_behind(book, reach, stand) for stand in book_stands(book)}
+
+
+def stands_behind(book, choices):
+    """The stand behind each stand of a book and its choice there; the book is not checked."""
+    reach = book_reach(book)
+    return {stand: next_stand(stand, choices[stand], reach) for stand in choices}
+
+
 def dealt(book, past):
     """The endless row that a book deals behind a past, as a running in least form; NoBook, then NoRow."""
     stand = stand_of(book, past)

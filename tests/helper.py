@@ -279,6 +279,37 @@ def row_by(book, past, turns):
     return row[len(past):]
 
 
+def choice_table(book):
+    """The choices of a book behind all pasts up to its reach, by tuples."""
+    return {tuple(past): choice_by(book, past)[1] for past in pasts_to(book[0], reach_by(book))}
+
+
+def stand_by(book, past):
+    """The stand of a past."""
+    return tuple(past[max(0, len(past) - reach_by(book)):])
+
+
+def steps_off(book, table, past, turns):
+    """The first so many turns of the row dealt behind a past, and the stand behind them."""
+    reach, stand, row = reach_by(book), stand_by(book, past), []
+    for turn in range(turns):
+        row.append(table[stand])
+        stand = (stand + (table[stand],))[max(0, len(stand) + 1 - reach):]
+    return row, stand
+
+
+def around(many):
+    """A book of so many claimants with a long lap: who went five turns ago hands on to the next one."""
+    return (many, [(("went", who, 5), (who + 1) % many) for who in range(many)])
+
+
+def counting(many):
+    """A book of two claimants that goes through all stands of so many turns, 3 to 5, but that of noughts."""
+    # The next choice is 1 just where one of two choices is, but not both: the one longest ago, and one behind it.
+    one, other = ("went", 1, many), ("went", 1, {3: 2, 4: 3, 5: 3}[many])
+    return (2, [(("or", (("and", (one, ("not", other))), ("and", (other, ("not", one))))), 1), (("and", ()), 0)])
+
+
 def wrong_books():
     """Pairs of a thing that is no book, and the place that is told of it."""
     went = ("went", 0, 1)

@@ -8,7 +8,9 @@ from itertools import product
 from dueturns.errors import NoBook, NoRow
 from dueturns.runnings import least_of
 from dueturns.stands import dealt, idle_rules, stand_of, stands_of
-from tests.helper import Refusals, choice_by, long_row, pasts_to, random_books, reach_by, row_by, wrong_books, wrong_pasts
+from tests.helper import (
+    Refusals, around, choice_by, counting, long_row, pasts_to, random_books, reach_by, row_by, wrong_books, wrong_pasts,
+)
 
 YES, NO = ("and", ()), ("or", ())
 
@@ -16,13 +18,6 @@ YES, NO = ("and", ()), ("or", ())
 def book_of(many, reach):
     """A book of so many claimants that looks back so many turns and chooses by no rule."""
     return (many, [(("and", (("went", 0, reach), NO)), 0)])
-
-
-def counting(many):
-    """A book of two claimants that goes through all stands of so many turns, 3 or 4, but that of noughts."""
-    # The next choice is 1 just where one of the two choices longest ago is, but not both.
-    first, second = ("went", 1, many), ("went", 1, many - 1)
-    return (2, [(("or", (("and", (first, ("not", second))), ("and", (second, ("not", first))))), 1), (YES, 0)])
 
 
 class Stands(unittest.TestCase, Refusals):
@@ -108,6 +103,8 @@ class Dealt(unittest.TestCase):
     def test_a_long_lap(self):
         self.assertEqual(len(dealt(counting(3), [1])[1]), 7)
         self.assertEqual(len(dealt(counting(4), [1])[1]), 15)
+        self.assertEqual(len(dealt(counting(5), [1])[1]), 31)
+        self.assertEqual(len(dealt(around(4), [0] * 5)[1]), 20)
         self.assertEqual(dealt(counting(4), []), ([], [0]))
 
     def test_held_against_the_book_s_choices(self):
